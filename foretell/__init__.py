@@ -1,0 +1,1 @@
+"""Foretell: texts told in few bits by foretelling each."""

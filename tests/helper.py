@@ -1,0 +1,127 @@
+"""What several tests need: things of other kinds, refusals, rows of steps."""
+
+from foretell import errors
+from foretell.numbers import LEAST, ONE
+
+NAMES = (
+    "NoLooks", "NoText", "NoBytes", "NoChance", "NoBit", "NoName", "NoPress", "NoMost",
+    "TooLong", "Taken", "NoPiece", "Full", "InUse", "NoShelf", "NoWords",
+)
+
+
+class Touchy:
+    """A thing that can't be compared, measured or walked."""
+
+    def refuse(self, *others):
+        raise RuntimeError("touched")
+
+    __eq__ = __lt__ = __le__ = __gt__ = __ge__ = __len__ = __iter__ = __bool__ = __repr__ = refuse
+    __hash__ = None
+
+
+def looped():
+    thing = []
+    thing.append(thing)
+    return thing
+
+
+def no_numbers():
+    """Things of many kinds, none of which is a whole number."""
+    return [
+        True, False, None, "", "1", "a", [], [1], [0], (), (1,), {}, {1: 1}, set(), {1}, 1.0, 0.0, 0.5,
+        float("nan"), float("inf"), 1 + 0j, b"", b"\x01", bytearray(b"\x01"), range(2), object(), int, len,
+        Touchy(), looped(), iter([1]), Ellipsis,
+    ]
+
+
+def no_lists():
+    """Things of many kinds, none of which is a list."""
+    return [
+        True, False, None, 0, 1, 255, 2 ** 70, "", "abc", (), (1, 2), {}, {1: 2}, set(), {1}, b"", b"abc",
+        bytearray(b"abc"), range(3), iter([1]), 1.5, object(), list, Touchy(),
+    ]
+
+
+def assert_refused(case, name, call):
+    """The call raises the very class of this name, and so none of the others."""
+    with case.assertRaises(ValueError) as caught:
+        call()
+    case.assertIs(type(caught.exception), getattr(errors, name))
+    case.assertIsInstance(caught.exception, errors.ForetellError)
+    for other in NAMES:
+        if other != name:
+            case.assertNotIsInstance(caught.exception, getattr(errors, other))
+
+
+def numbers_from(seed):
+    """The same row of numbers below 2 ** 32 for the same seed, on each Python."""
+    state = seed
+    while True:
+        state = (state * 6364136223846793005 + 1442695040888963407) % 2 ** 64
+        yield state >> 32
+
+
+def mixed_steps(seed, many):
+    """Chances and bits of all sorts: both ends of the range, the middle, the numbers beside these, others."""
+    edges = [LEAST, LEAST + 1, ONE // 2 - 1, ONE // 2, ONE // 2 + 1, ONE - LEAST - 1, ONE - LEAST]
+    numbers = numbers_from(seed)
+    steps = []
+    for _ in range(many):
+        if next(numbers) % 2:
+            chance = edges[next(numbers) % len(edges)]
+        else:
+            chance = LEAST + next(numbers) % (ONE - 2 * LEAST + 1)
+        steps.append((chance, next(numbers) % 2))
+    return steps
+
+
+def likely_steps(seed, many):
+    """Bits that come about as often as their chances tell: most steps narrow by little."""
+    numbers = numbers_from(seed)
+    steps = []
+    for _ in range(many):
+        chance = LEAST + next(numbers) % (ONE - 2 * LEAST + 1)
+        steps.append((chance, 1 if next(numbers) % ONE < chance else 0))
+    return steps
+
+
+def rows_of_steps():
+    """Rows of many steps, by name."""
+    rows = {f"mixed {seed}": mixed_steps(seed, 400) for seed in range(4)}
+    rows.update({f"likely {seed}": likely_steps(seed, 400) for seed in range(4)})
+    for chance in (LEAST, LEAST + 1, 100003, ONE // 3, ONE // 2, ONE - ONE // 3, ONE - LEAST - 1, ONE - LEAST):
+        for bit in (0, 1):
+            rows[f"{chance} with {bit}"] = [(chance, bit)] * 400
+    rows["least with 1, long"] = [(LEAST, 1)] * 1200
+    rows["most with 0, long"] = [(ONE - LEAST, 0)] * 1200
+    rows["half, in turn"] = [(ONE // 2, k % 2) for k in range(400)]
+    rows["around the middle"] = around_the_middle(400)
+    return rows
+
+
+def around_the_middle(many):
+    """Steps that keep the row 128, 0, 0 .. and the one just ahead within the span: no byte is ever settled."""
+    low, width, size = 0, 2 ** 40, 5
+    steps = []
+    for _ in range(many):
+        ahead = 128 * 256 ** (size - 1) - low
+        chance = min(max(ahead * ONE // width + 2, LEAST), ONE - LEAST)
+        bit = 1 if width * chance // ONE > ahead else 0
+        steps.append((chance, bit))
+        low, width, size = plain_step((low, width, size), chance, bit)
+        if not low < 128 * 256 ** (size - 1) < low + width:
+            raise RuntimeError("the middle was lost")
+    return steps
+
+
+def plain_step(ends, chance, bit):
+    """Point 5's own step."""
+    low, width, size = ends
+    cut = width * chance // ONE
+    if bit == 1:
+        width = cut
+    else:
+        low, width = low + cut, width - cut
+    while width < 2 ** 32:
+        low, width, size = low * 256, width * 256, size + 1
+    return (low, width, size)
