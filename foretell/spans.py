@@ -32,10 +32,14 @@ class Span:
     def ends(self):
         return (self.low, self.width, self.size)
 
+    def cut(self, chance):
+        # How many of the span's numbers a 1 gets: the first ones, ahead of those of a 0.
+        return self.width * chance // ONE
+
     def narrow(self, chance, bit):
         check_chance(chance)
         check_bit(bit)
-        cut = self.width * chance // ONE
+        cut = self.cut(chance)
         if bit == 1:
             self.width = cut
         else:

@@ -2,6 +2,7 @@
 
 from foretell import errors
 from foretell.numbers import LEAST, ONE
+from foretell.spans import Span
 
 NAMES = (
     "NoLooks", "NoText", "NoBytes", "NoChance", "NoBit", "NoName", "NoPress", "NoMost",
@@ -42,6 +43,22 @@ def no_lists():
     ]
 
 
+def no_chances():
+    return [0, 1, LEAST - 1, ONE - LEAST + 1, ONE, -LEAST, -1, 2 ** 70, 2 ** 20000] + no_numbers()
+
+
+def no_bits():
+    return [-1, 2, 255, LEAST, ONE // 2, 2 ** 70, 2 ** 20000, -2 ** 70] + no_numbers()
+
+
+def bad_lists(most):
+    """Lists that are none of at most so many signs: a part is no sign, or there are too many."""
+    rows = [[0] * (most + 1), [255] * (most + 2), [1] * 20000]
+    for part in [256, -1, 2 ** 70, -2 ** 70, LEAST] + no_numbers():
+        rows.extend([[part], [part, 1, 2], [1, part, 2], [1, 2, part]])
+    return rows
+
+
 def assert_refused(case, name, call):
     """The call raises the very class of this name, and so none of the others."""
     with case.assertRaises(ValueError) as caught:
@@ -59,6 +76,21 @@ def numbers_from(seed):
     while True:
         state = (state * 6364136223846793005 + 1442695040888963407) % 2 ** 64
         yield state >> 32
+
+
+def mixed_bits(seed, many):
+    numbers = numbers_from(seed)
+    return [next(numbers) % 2 for _ in range(many)]
+
+
+def mixed_signs(seed, many):
+    """Signs of all sorts: at the ends of the range, amid it, alike running."""
+    numbers = numbers_from(seed)
+    signs = []
+    for _ in range(many):
+        pick = next(numbers) % 4
+        signs.append((0, 255, next(numbers) % 256, 97 + next(numbers) % 3)[pick])
+    return signs
 
 
 def mixed_steps(seed, many):
@@ -97,6 +129,17 @@ def rows_of_steps():
     rows["half, in turn"] = [(ONE // 2, k % 2) for k in range(400)]
     rows["around the middle"] = around_the_middle(400)
     return rows
+
+
+def narrowed(steps):
+    span = Span()
+    for chance, bit in steps:
+        span.narrow(chance, bit)
+    return span
+
+
+def number_of(row):
+    return int.from_bytes(bytes(row), "big")
 
 
 def around_the_middle(many):

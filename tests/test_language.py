@@ -60,6 +60,15 @@ def bound_names(node):
     return []
 
 
+def top_names(tree):
+    names = {node.name for node in tree.body if isinstance(node, (ast.FunctionDef, ast.ClassDef))}
+    return names | {node.targets[0].id for node in tree.body if isinstance(node, ast.Assign)}
+
+
+def drawn_from(tree):
+    return {node.module for node in tree.body if isinstance(node, ast.ImportFrom)}
+
+
 class TestFiles(unittest.TestCase):
     def test_names(self):
         self.assertTrue(package_files())
@@ -98,6 +107,32 @@ class TestFiles(unittest.TestCase):
                 self.assertEqual((node.level, node.col_offset), (0, 0), where)
                 self.assertIn(node.module, files, where)
                 self.assertNotIn("*", [part.name for part in node.names], where)
+
+
+    def test_each_name_is_drawn_from_the_file_that_defines_it(self):
+        tops = {f"foretell.{name[:-3]}": top_names(tree) for name, tree in trees().items()}
+        for where, node in walked():
+            if isinstance(node, ast.ImportFrom):
+                for part in node.names:
+                    self.assertIn(part.name, tops[node.module], where)
+
+    def test_no_two_files_draw_from_one_another(self):
+        left = {f"foretell.{name[:-3]}": drawn_from(tree) for name, tree in trees().items()}
+        while left:
+            # Files that draw from none of those left can be taken away; in a ring there is none such.
+            done = [name for name, drawn in left.items() if not drawn & set(left)]
+            self.assertTrue(done, sorted(left))
+            left = {name: drawn for name, drawn in left.items() if name not in done}
+
+    def test_no_local_is_called_like_a_class_or_an_import(self):
+        for name, tree in trees().items():
+            taken = {part.name for node in tree.body if isinstance(node, ast.ImportFrom) for part in node.names}
+            taken |= {node.name for node in tree.body if isinstance(node, ast.ClassDef)}
+            for node in ast.walk(tree):
+                if isinstance(node, ast.arg):
+                    self.assertNotIn(node.arg, taken, f"{name}:{node.lineno}")
+                if isinstance(node, ast.Name) and isinstance(node.ctx, ast.Store):
+                    self.assertNotIn(node.id, taken, f"{name}:{node.lineno}")
 
 
 class TestForms(unittest.TestCase):

@@ -3,7 +3,7 @@ import unittest
 from foretell.numbers import (
     LEAST, ONE, checked_bytes, checked_text, gives, is_bit, is_chance, is_sign, is_whole,
 )
-from tests.helper import assert_refused, no_lists, no_numbers
+from tests.helper import assert_refused, no_bits, no_chances, no_lists, no_numbers
 
 GREAT = [2 ** 31, 2 ** 32, 2 ** 63, 2 ** 64, 2 ** 70, 10 ** 30, 2 ** 20000]
 BELOW = [-1, -2, -255, -256, -LEAST, -ONE // 2, -2 ** 31, -2 ** 64, -2 ** 20000]
@@ -120,8 +120,6 @@ class TestCheckedBytes(CheckedLists, unittest.TestCase):
 
 class TestGives(unittest.TestCase):
     chances = [LEAST, LEAST + 1, 100003, ONE // 2 - 1, ONE // 2, ONE // 2 + 1, ONE - LEAST - 1, ONE - LEAST]
-    no_chances = [0, 1, LEAST - 1, ONE - LEAST + 1, ONE, -LEAST, -1, 2 ** 70, 2 ** 20000] + no_numbers()
-    no_bits = [-1, 2, 255, LEAST, ONE // 2, 2 ** 70, 2 ** 20000, -2 ** 70] + no_numbers()
 
     def test_what_a_chance_gives(self):
         for chance in self.chances:
@@ -129,18 +127,18 @@ class TestGives(unittest.TestCase):
             self.assertEqual(gives(chance, 0), 2 ** 24 - chance)
 
     def test_no_chance(self):
-        for thing in self.no_chances:
+        for thing in no_chances():
             for bit in (0, 1):
                 assert_refused(self, "NoChance", lambda: gives(thing, bit))
 
     def test_no_bit(self):
-        for thing in self.no_bits:
+        for thing in no_bits():
             for chance in self.chances:
                 assert_refused(self, "NoBit", lambda: gives(chance, thing))
 
     def test_no_chance_comes_ahead_of_no_bit(self):
-        for thing in self.no_chances:
-            for other in self.no_bits:
+        for thing in no_chances():
+            for other in no_bits():
                 assert_refused(self, "NoChance", lambda: gives(thing, other))
 
 

@@ -3,19 +3,9 @@ import unittest
 from foretell.numbers import LEAST, ONE, gives, is_sign, is_whole
 from foretell.spans import Span
 from tests.helper import (
-    around_the_middle, assert_refused, likely_steps, mixed_steps, no_numbers, plain_step, rows_of_steps,
+    around_the_middle, assert_refused, likely_steps, mixed_steps, narrowed, no_bits, no_chances, number_of, plain_step,
+    rows_of_steps,
 )
-
-
-def narrowed(steps):
-    span = Span()
-    for chance, bit in steps:
-        span.narrow(chance, bit)
-    return span
-
-
-def number_of(row):
-    return int.from_bytes(bytes(row), "big")
 
 
 def plainly_settled(ends):
@@ -135,9 +125,6 @@ class TestEnds(unittest.TestCase):
 
 
 class TestRefusals(unittest.TestCase):
-    no_chances = [0, 1, LEAST - 1, ONE - LEAST + 1, ONE, -LEAST, 2 ** 70, 2 ** 20000] + no_numbers()
-    no_bits = [-1, 2, 255, LEAST, ONE // 2, 2 ** 70, 2 ** 20000] + no_numbers()
-
     def assert_unchanged(self, span, name, chance, bit):
         ahead = (span.ends(), span.settled(), span.told())
         assert_refused(self, name, lambda: span.narrow(chance, bit))
@@ -146,10 +133,10 @@ class TestRefusals(unittest.TestCase):
     def test_refused_changes_nothing_and_the_good_step_is_taken_then(self):
         for steps in ([], mixed_steps(3, 30)):
             span, ends = narrowed(steps), narrowed(steps).ends()
-            for thing in self.no_chances:
+            for thing in no_chances():
                 self.assert_unchanged(span, "NoChance", thing, 0)
                 self.assert_unchanged(span, "NoChance", thing, 1)
-            for thing in self.no_bits:
+            for thing in no_bits():
                 self.assert_unchanged(span, "NoBit", LEAST, thing)
                 self.assert_unchanged(span, "NoBit", ONE // 2, thing)
             span.narrow(ONE // 3, 0)
@@ -158,8 +145,8 @@ class TestRefusals(unittest.TestCase):
 
     def test_no_chance_comes_ahead_of_no_bit(self):
         span = narrowed(mixed_steps(4, 10))
-        for thing in self.no_chances:
-            for other in self.no_bits:
+        for thing in no_chances():
+            for other in no_bits():
                 assert_refused(self, "NoChance", lambda: span.narrow(thing, other))
         self.assertEqual(span.ends(), narrowed(mixed_steps(4, 10)).ends())
 
