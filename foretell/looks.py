@@ -55,9 +55,20 @@ class Book:
         slot = self.slots.get(context_of(self.look, signs, node))
         return Slot().chance() if slot is None else slot.chance()
 
-    def seen(self, signs, node, bit):
-        check_bit(bit)
+    def slot_at(self, signs, node):
         context = context_of(self.look, signs, node)
         if context not in self.slots:
             self.slots[context] = slot_of(self.look[0])
-        self.slots[context].seen(bit)
+        return self.slots[context]
+
+    def seen(self, signs, node, bit):
+        check_bit(bit)
+        self.slot_at(signs, node).seen(bit)
+
+    def twin(self):
+        slots = {}
+        for context, slot in self.slots.items():
+            slots[context] = slot.twin()
+        made = Book(self.look)
+        made.slots = slots
+        return made

@@ -16,6 +16,9 @@ class Slot:
     def seen(self, bit):
         check_bit(bit)
 
+    def twin(self):
+        return Slot()
+
 
 class Even(Slot):
     def __init__(self):
@@ -35,6 +38,12 @@ class Even(Slot):
             self.noughts = (self.noughts + 1) // 2
             self.ones = (self.ones + 1) // 2
 
+    def twin(self):
+        made = Even()
+        made.noughts = self.noughts
+        made.ones = self.ones
+        return made
+
 
 class Quick(Slot):
     def __init__(self):
@@ -50,6 +59,11 @@ class Quick(Slot):
         else:
             moved = self.held - self.held // 16
         self.held = min(max(moved, LEAST), ONE - LEAST)
+
+    def twin(self):
+        made = Quick()
+        made.held = self.held
+        return made
 
 
 class Run(Slot):
@@ -69,6 +83,12 @@ class Run(Slot):
         else:
             self.last = bit
             self.length = 1
+
+    def twin(self):
+        made = Run()
+        made.last = self.last
+        made.length = self.length
+        return made
 
 
 def slot_of(kind):

@@ -1,6 +1,7 @@
 """What several tests need: things of other kinds, refusals, rows of steps."""
 
 from foretell import errors
+from foretell.decisions import decisions_of, nodes_of
 from foretell.numbers import LEAST, ONE
 from foretell.spans import Span
 
@@ -8,6 +9,9 @@ NAMES = (
     "NoLooks", "NoText", "NoBytes", "NoChance", "NoBit", "NoName", "NoPress", "NoMost",
     "TooLong", "Taken", "NoPiece", "Full", "InUse", "NoShelf", "NoWords",
 )
+
+KINDS = ("even", "quick", "run")
+LOOKS = [("even", ()), ("quick", (1,)), ("run", (1, 2)), ("even", (2, 4)), ("quick", (1, 2, 3, 8)), ("run", ())]
 
 
 class Touchy:
@@ -57,6 +61,46 @@ def bad_lists(most):
     for part in [256, -1, 2 ** 70, -2 ** 70, LEAST] + no_numbers():
         rows.extend([[part], [part, 1, 2], [1, part, 2], [1, 2, part]])
     return rows
+
+
+def no_kinds():
+    return [
+        "", "Even", "EVEN", "even ", " run", "runs", "ru", "slot", "quick\n", "evenquick", 0, 1, 2, -1, True, False,
+        None, 0.5, b"even", bytearray(b"run"), ("even",), ["even"], {"even": "even"}, {"even"}, list("run"), [], {},
+        set(), str, object(), Touchy(), looped(), iter("even"), Ellipsis,
+    ]
+
+
+def no_places():
+    rows = [
+        None, True, 0, 1, 8, "", "12", [], [1], [1, 2], {}, {1: 2}, set(), {1}, range(1, 3), b"\x01", object(), Touchy(),
+        looped(), iter((1,)), (1, 2, 3, 4, 5), (1, 2, 3, 4, 5, 6, 7, 8), (1,) * 1000, (2, 1), (1, 3, 2), (8, 1),
+        (4, 3, 2, 1), (1, 1), (8, 8), (1, 2, 2), (1, 2, 2, 3), (0,), (9,), (0, 1), (8, 9), (1, 9), (-1,), (-1, 1),
+        (256,), (2 ** 70,), ((1,),), ((1, 2),), ("1",), ("a", "b"), (1, "2"), (True,), (True, 2), (False, True),
+    ]
+    for thing in no_numbers():
+        rows.extend([(thing,), (1, thing), (thing, 8)])
+    return rows
+
+
+def no_look_things():
+    """Things of all kinds, none of which is a look."""
+    things = [
+        (), ("even",), ("even", (1,), 1), ("even", (1,), None), ((1,), "even"), ["even", (1,)], ["even", ()],
+        {"even": (1,)}, "even", "ev", None, True, 0, 1, ((), ()), (("even", ()),), ("even", 1, 2), [("even", ())],
+        object(), Touchy(), looped(), {"even", ()}, range(2), b"ev",
+    ]
+    things.extend((kind, places) for kind in no_kinds() for places in ((), (1,)))
+    things.extend((kind, places) for kind in KINDS for places in no_places())
+    return things
+
+
+def no_looks():
+    """Things of all kinds that are no looks: no list, of no looks, of too many, one of them none."""
+    things = no_lists() + [[], [("even", ())] * 7, [("run", (1, 2))] * 1000, ("even", (1,)), (("even", ()),)]
+    for thing in no_look_things():
+        things.extend([[thing], [("quick", (1, 2)), thing]])
+    return things
 
 
 def assert_refused(case, name, call):
@@ -168,3 +212,42 @@ def plain_step(ends, chance, bit):
     while width < 2 ** 32:
         low, width, size = low * 256, width * 256, size + 1
     return (low, width, size)
+
+
+def steps_of(text):
+    """The signs ahead, the node and the bit of each decision of a text."""
+    rows = zip(nodes_of(text), decisions_of(text))
+    return [(text[:many // 9], node, bit) for many, (node, bit) in enumerate(rows)]
+
+
+def given(chance, bit):
+    return chance if bit == 1 else ONE - chance
+
+
+def product_given(chances, bits):
+    product = 1
+    for chance, bit in zip(chances, bits):
+        product *= given(chance, bit)
+    return product
+
+
+def worth_of_row(row, rows, bits):
+    """H * (31 * K + 1) ** s of point 4, for one row of looks: numbers from 0 on, one for each decision."""
+    stays = sum(look == other for look, other in zip(row, row[1:]))
+    many = len(rows[0])
+    return product_given([chances[look] for look, chances in zip(row, rows)], bits) * (31 * many + 1) ** stays
+
+
+def worth_of_best_row(rows, bits):
+    """The most of these over all rows of looks: for each look the best one that ends with it, decision by decision."""
+    many = len(rows[0])
+    best = [given(chance, bits[0]) for chance in rows[0]]
+    for chances, bit in zip(rows[1:], bits[1:]):
+        most = max(best)
+        best = [max(most, best[k] * (31 * many + 1)) * given(chances[k], bit) for k in range(many)]
+    return max(best)
+
+
+def mixed_worth(chances, many, bits):
+    """2 * G * (32 * K) ** n of point 4, of the mixed chances of so many looks."""
+    return 2 * product_given(chances, bits) * (32 * many) ** len(bits)

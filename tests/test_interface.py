@@ -12,6 +12,10 @@ FUNCTIONS = {
     "decisions": {"decisions_of": ["text"], "nodes_of": ["text"], "signs_of": ["bits"]},
     "slots": {"slot_of": ["kind"]},
     "looks": {"checked_looks": ["thing"], "context_of": ["look", "signs", "node"]},
+    "telling": {
+        "checked_learned": ["thing"], "foretold": ["looks", "text", "learned=None"],
+        "by_looks": ["looks", "text", "learned=None"], "cost": ["looks", "text", "learned=None"],
+    },
 }
 SLOT = {"": [], "chance": [], "seen": ["bit"]}
 CLASSES = {
@@ -19,6 +23,13 @@ CLASSES = {
     "seekers": {"Seeker": {"": ["data"], "bit": ["chance"], "ends": [], "told": []}},
     "slots": {"Slot": SLOT, "Even": SLOT, "Quick": SLOT, "Run": SLOT},
     "looks": {"Book": {"": ["look"], "chance": ["signs", "node"], "seen": ["signs", "node", "bit"]}},
+    "mixing": {"Mixer": {"": ["many"], "weights": [], "mixed": ["chances"], "learn": ["chances", "bit"]}},
+    "foretellers": {
+        "Foreteller": {
+            "": ["looks"], "chances": [], "chance": [], "weights": [], "node": [], "signs": [], "see": ["bit"],
+            "fork": [],
+        },
+    },
 }
 
 
@@ -27,7 +38,8 @@ def module_of(name):
 
 
 def arguments_of(called):
-    return list(inspect.signature(called).parameters)
+    """Their names, with what they are where nothing is handed in."""
+    return [str(argument) for argument in inspect.signature(called).parameters.values()]
 
 
 class TestInterface(unittest.TestCase):

@@ -1,50 +1,18 @@
 import itertools
 import unittest
 
-from foretell.decisions import decisions_of, nodes_of
 from foretell.looks import Book, checked_looks, context_of
 from foretell.numbers import ONE, is_chance, is_whole
 from foretell.slots import slot_of
-from tests.helper import Touchy, assert_refused, looped, mixed_bits, mixed_signs, no_bits, no_lists, no_numbers
+from tests.helper import (
+    KINDS, LOOKS, assert_refused, mixed_bits, mixed_signs, no_bits, no_lists, no_look_things, steps_of,
+)
 
-KINDS = ("even", "quick", "run")
 HALF = ONE // 2
 
 
 def all_places():
     return [places for many in range(5) for places in itertools.combinations(range(1, 9), many)]
-
-
-def no_kinds():
-    return [
-        "", "Even", "EVEN", "even ", " run", "runs", "ru", "slot", "quick\n", "evenquick", 0, 1, 2, -1, True, False,
-        None, 0.5, b"even", bytearray(b"run"), ("even",), ["even"], {"even": "even"}, {"even"}, list("run"), [], {},
-        set(), str, object(), Touchy(), looped(), iter("even"), Ellipsis,
-    ]
-
-
-def no_places():
-    rows = [
-        None, True, 0, 1, 8, "", "12", [], [1], [1, 2], {}, {1: 2}, set(), {1}, range(1, 3), b"\x01", object(), Touchy(),
-        looped(), iter((1,)), (1, 2, 3, 4, 5), (1, 2, 3, 4, 5, 6, 7, 8), (1,) * 1000, (2, 1), (1, 3, 2), (8, 1),
-        (4, 3, 2, 1), (1, 1), (8, 8), (1, 2, 2), (1, 2, 2, 3), (0,), (9,), (0, 1), (8, 9), (1, 9), (-1,), (-1, 1),
-        (256,), (2 ** 70,), ((1,),), ((1, 2),), ("1",), ("a", "b"), (1, "2"), (True,), (True, 2), (False, True),
-    ]
-    for thing in no_numbers():
-        rows.extend([(thing,), (1, thing), (thing, 8)])
-    return rows
-
-
-def no_look_things():
-    """Things of all kinds, none of which is a look."""
-    things = [
-        (), ("even",), ("even", (1,), 1), ("even", (1,), None), ((1,), "even"), ["even", (1,)], ["even", ()],
-        {"even": (1,)}, "even", "ev", None, True, 0, 1, ((), ()), (("even", ()),), ("even", 1, 2), [("even", ())],
-        object(), Touchy(), looped(), {"even", ()}, range(2), b"ev",
-    ]
-    things.extend((kind, places) for kind in no_kinds() for places in ((), (1,)))
-    things.extend((kind, places) for kind in KINDS for places in no_places())
-    return things
 
 
 class TestCheckedLooks(unittest.TestCase):
@@ -136,15 +104,6 @@ class TestContext(unittest.TestCase):
         told = context_of(("even", (1, 2)), signs, 9)
         signs.clear()
         self.assertEqual(told, (3, 2, 9))
-
-
-LOOKS = [("even", ()), ("quick", (1,)), ("run", (1, 2)), ("even", (2, 4)), ("quick", (1, 2, 3, 8)), ("run", ())]
-
-
-def steps_of(text):
-    """The signs ahead, the node and the bit of each decision of a text."""
-    rows = zip(nodes_of(text), decisions_of(text))
-    return [(text[:many // 9], node, bit) for many, (node, bit) in enumerate(rows)]
 
 
 def mixed_contexts(seed, many):
