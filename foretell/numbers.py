@@ -1,6 +1,6 @@
 """The numbers that all is reckoned with, and lists of signs and of bytes."""
 
-from foretell.errors import NoBit, NoBytes, NoChance, NoText
+from foretell.errors import NoBit, NoBytes, NoChance, NoMost, NoText
 
 # 2 ** 24 and 2 ** 15: only plain values stand at a file's top.
 ONE = 16777216
@@ -42,6 +42,11 @@ def checked_bytes(thing):
     if not is_list_of_signs(thing, MOST_BYTES):
         raise NoBytes("bytes are a list of at most 12000 whole numbers from 0 to 255")
     return list(thing)
+
+
+def check_most(thing):
+    if not is_whole(thing) or not 0 <= thing <= MOST_SIGNS:
+        raise NoMost("most is a whole number from 0 to 1000")
 
 
 def check_chance(thing):

@@ -1,8 +1,10 @@
-"""What several tests need: things of other kinds, refusals, rows of steps."""
+"""What several tests need: things of other kinds, refusals, rows of steps, texts."""
 
 from foretell import errors
 from foretell.decisions import decisions_of, nodes_of
+from foretell.foretellers import Foreteller
 from foretell.numbers import LEAST, ONE
+from foretell.pressing import pressed
 from foretell.spans import Span
 
 NAMES = (
@@ -61,6 +63,44 @@ def bad_lists(most):
     for part in [256, -1, 2 ** 70, -2 ** 70, LEAST] + no_numbers():
         rows.extend([[part], [part, 1, 2], [1, part, 2], [1, 2, part]])
     return rows
+
+
+def no_texts():
+    return no_lists() + bad_lists(1000)
+
+
+def no_learned():
+    """Things of all kinds that are no learned texts; None and the list of none are some."""
+    things = [thing for thing in no_lists() if thing is not None]
+    things += [([1], [2]), ([],), {"a": [1]}, [1, 2, 3], [0], ["abc"], [None], [()], [(1, 2)], [[[1]]], [[[]]]]
+    things.append(looped())
+    for thing in no_texts():
+        things.extend([[thing], [[1, 2], thing], [thing, [1, 2]], [[]] * 9 + [thing]])
+    return things
+
+
+def no_bytes():
+    return no_lists() + bad_lists(12000)
+
+
+def no_mosts():
+    """Things of all kinds, none of which is a whole number from 0 to 1000."""
+    return [-1, -1000, 1001, 1002, 12000, LEAST, 2 ** 70, -2 ** 70, 2 ** 20000] + no_numbers()
+
+
+def no_names():
+    """Things of all kinds, none of which is a text of one to eight small letters."""
+    texts = [
+        "", " ", "  ", "abcdefghi", "aaaaaaaaaa", "a" * 5000, "A", "Z", "aB", "Ab", "abcdefgH", "ABC", "a1", "1", "0",
+        "a b", " a", "a ", "a\n", "\n", "\na", "a\t", "a\x00", "a_b", "_", "a-b", "-", "a.b", "`", "{", "@", "[",
+        "a\u0301", "\u00e4", "\u00df", "\u00aa", "\u0131", "\uff41", "\u0430", "ab\u00e9", "\U0001d41a", "\ud800",
+    ]
+    things = [
+        True, False, 0, 1, -1, 97, 1.5, [], ["a"], ["a", "b"], (), ("a",), {}, {"a": 1}, set(), {"a"}, b"", b"a",
+        b"abc", bytearray(b"a"), range(3), iter("a"), str, len, object(), Touchy(), looped(), Ellipsis, 2 ** 70,
+        float("nan"),
+    ]
+    return texts + things
 
 
 def no_kinds():
@@ -251,3 +291,100 @@ def worth_of_best_row(rows, bits):
 def mixed_worth(chances, many, bits):
     """2 * G * (32 * K) ** n of point 4, of the mixed chances of so many looks."""
     return 2 * product_given(chances, bits) * (32 * many) ** len(bits)
+
+
+def taught(looks, learned):
+    """A foreteller that has seen all these texts."""
+    foreteller = Foreteller(looks)
+    for text in learned:
+        for bit in decisions_of(text):
+            foreteller.see(bit)
+    return foreteller
+
+
+SOME_LOOKS = [
+    [("even", ())], [("run", (1,))], [("quick", (1, 2))], LOOKS, LOOKS[:2], [("even", (1,))] * 3,
+    [("run", (1, 2, 3, 4)), ("quick", ()), ("even", (8,))],
+]
+TEXTS = [
+    [], [0], [255], [97], [97, 97], [0, 255], [97, 98, 97, 98, 97, 98], [7] * 40, mixed_signs(1, 30), list(range(40)),
+]
+LEARNED = [
+    [], [[]], [[97, 98]], [[], []], [[97, 98], [97, 98, 97, 98]], [[7] * 10, [], [97], mixed_signs(1, 20)],
+    [[97, 98, 97]] * 5, [mixed_signs(1, 30)],
+]
+
+
+def cases():
+    """Looks, a text and learned texts, each with each."""
+    return [(looks, text, learned) for looks in SOME_LOOKS for text in TEXTS for learned in LEARNED]
+
+
+# Pieces of a store: names of one to eight letters, texts of none and of some signs, bases that stand on bases.
+PIECES = [
+    ("a", [97, 98, 97, 98], None), ("bc", [97, 98, 97, 98, 99], "a"), ("z", [], None), ("abcdefgh", [97, 98, 99], "bc"),
+    ("d", [0, 255], "a"), ("zzzzzzzz", [97, 98, 99, 97], "abcdefgh"), ("e", [], "z"), ("on", [255, 0, 255], "d"),
+]
+
+
+class PlainStore:
+    """What a store must tell by the words of points 17 and 19: names, texts and bases, kept as they are."""
+
+    def __init__(self, looks, most=1000):
+        self.looks, self.most, self.pieces, self.known = list(looks), most, {}, {}
+
+    def put(self, name, text, base=None):
+        self.pieces[name] = (list(text), base)
+
+    def drop(self, name):
+        del self.pieces[name]
+
+    def learned_on(self, base):
+        return [] if base is None else self.learned_on(self.pieces[base][1]) + [list(self.pieces[base][0])]
+
+    def bytes_on(self, text, base):
+        """The text pressed with what it stands on; kept, as it is asked for often."""
+        learned = self.learned_on(base)
+        key = (tuple(text), tuple(map(tuple, learned)))
+        if key not in self.known:
+            self.known[key] = pressed(self.looks, text, learned)
+        return list(self.known[key])
+
+    def best_base(self, text):
+        bases = [None] + list(self.pieces)
+        return min(bases, key=lambda base: (len(self.bytes_on(text, base)), bases.index(base)))
+
+    def told(self, name):
+        text, base = self.pieces[name]
+        return (text, self.bytes_on(text, base), base, self.learned_on(base))
+
+    def shelf(self):
+        """Byte by byte, by the words of point 19."""
+        row = [len(self.looks)]
+        for kind, places in self.looks:
+            row += [{"even": 0, "quick": 1, "run": 2}[kind], len(places), *places]
+        row += [self.most // 256, self.most % 256, len(self.pieces)]
+        for name, (text, base) in self.pieces.items():
+            row += [len(name)] + [ord(letter) - ord("a") for letter in name]
+            row += [0 if base is None else list(self.pieces).index(base) + 1] + self.bytes_on(text, base)
+        return row
+
+
+def with_pieces(store, pieces):
+    for name, text, base in pieces:
+        store.put(name, text, base)
+    return store
+
+
+def told_of(store, name):
+    return (store.text_of(name), store.bytes_of(name), store.base_of(name), store.learned_of(name))
+
+
+def assert_same_store(case, store, plain):
+    """The store tells the same as the plain one, asked in one order and in the other."""
+    names = list(plain.pieces)
+    case.assertEqual(store.told_looks(), plain.looks)
+    case.assertEqual(store.most_signs(), plain.most)
+    case.assertEqual(store.names(), names)
+    for name in names + names[::-1]:
+        case.assertEqual(told_of(store, name), plain.told(name))

@@ -16,6 +16,13 @@ FUNCTIONS = {
         "checked_learned": ["thing"], "foretold": ["looks", "text", "learned=None"],
         "by_looks": ["looks", "text", "learned=None"], "cost": ["looks", "text", "learned=None"],
     },
+    "pressing": {
+        "pressed": ["looks", "text", "learned=None"], "read": ["looks", "data", "most=1000", "learned=None"],
+        "read_first": ["looks", "data", "most=1000", "learned=None"],
+    },
+    "stores": {"checked_name": ["thing"]},
+    "shelves": {"shelf_of": ["store"], "opened": ["data"]},
+    "desk": {"hex_of": ["signs"]},
 }
 SLOT = {"": [], "chance": [], "seen": ["bit"]}
 CLASSES = {
@@ -30,6 +37,14 @@ CLASSES = {
             "fork": [],
         },
     },
+    "stores": {
+        "Store": {
+            "": ["looks", "most=1000"], "told_looks": [], "most_signs": [], "names": [],
+            "put": ["name", "text", "base=None"], "text_of": ["name"], "bytes_of": ["name"], "base_of": ["name"],
+            "learned_of": ["name"], "drop": ["name"], "best_base": ["text"],
+        },
+    },
+    "desk": {"Desk": {"": ["looks", "most=1000"], "say": ["row"]}},
 }
 
 

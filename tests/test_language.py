@@ -32,6 +32,10 @@ BANNED = re.compile(
     r"\b(type|typing|typing_extensions|enum|Enum|IntEnum|StrEnum|Flag|IntFlag|Generic|Protocol|ABC|ABCMeta|"
     r"namedtuple|NamedTuple|TypedDict|TYPE_CHECKING|abstractmethod)\b|dataclass|overload|contextmanager"
 )
+UNUSED = set(
+    "register mro elements open input version_info with_traceback add_note format format_map chr compile dir eval exec "
+    "exit gc getattr globals hasattr help id license locals os quit setattr super sys vars".split()
+)
 
 
 def package_files():
@@ -108,7 +112,6 @@ class TestFiles(unittest.TestCase):
                 self.assertIn(node.module, files, where)
                 self.assertNotIn("*", [part.name for part in node.names], where)
 
-
     def test_each_name_is_drawn_from_the_file_that_defines_it(self):
         tops = {f"foretell.{name[:-3]}": top_names(tree) for name, tree in trees().items()}
         for where, node in walked():
@@ -160,6 +163,26 @@ class TestForms(unittest.TestCase):
         for where, node in walked():
             if isinstance(node, ast.Compare) and isinstance(node.ops[0], (ast.Is, ast.IsNot)):
                 self.assertIn(ast.unparse(node.comparators[0]), ("None", "True", "False"), where)
+
+    def test_errors_are_taken_by_name_and_raised_on_the_spot(self):
+        own = top_names(trees()["errors.py"])
+        for where, node in walked():
+            if isinstance(node, ast.ExceptHandler):
+                taken = node.type.elts if isinstance(node.type, ast.Tuple) else [node.type]
+                self.assertTrue(all(part.id in own | {"KeyError", "ZeroDivisionError"} for part in taken), where)
+            if isinstance(node, ast.Raise):
+                self.assertIsInstance(node.exc, ast.Call, where)
+                self.assertIn(node.exc.func.id, own, where)
+
+    def test_signs_that_stand_in_no_text(self):
+        for where, node in walked():
+            if isinstance(node, ast.Constant) and isinstance(node.value, str):
+                self.assertNotIn("%", node.value, where)
+
+    def test_names_that_are_not_used(self):
+        for where, node in walked():
+            for name in bound_names(node):
+                self.assertNotIn(name, UNUSED, where)
 
     def test_plain_names(self):
         for where, node in walked():

@@ -1,52 +1,15 @@
 import unittest
 
 from foretell.decisions import decisions_of
-from foretell.foretellers import Foreteller
 from foretell.numbers import ONE, is_bit, is_chance, is_whole
 from foretell.telling import by_looks, checked_learned, cost, foretold
 from tests.helper import (
-    LOOKS, Touchy, assert_refused, bad_lists, looped, mixed_signs, mixed_worth, no_lists, no_looks, numbers_from,
-    product_given, worth_of_best_row, worth_of_row,
+    LEARNED, LOOKS, SOME_LOOKS, TEXTS, Touchy, assert_refused, cases, mixed_signs, mixed_worth, no_learned, no_looks,
+    no_texts, numbers_from, product_given, taught, worth_of_best_row, worth_of_row,
 )
 
 HALF = ONE // 2
-SOME_LOOKS = [
-    [("even", ())], [("run", (1,))], [("quick", (1, 2))], LOOKS, LOOKS[:2], [("even", (1,))] * 3,
-    [("run", (1, 2, 3, 4)), ("quick", ()), ("even", (8,))],
-]
-TEXTS = [
-    [], [0], [255], [97], [97, 97], [0, 255], [97, 98, 97, 98, 97, 98], [7] * 40, mixed_signs(1, 30), list(range(40)),
-]
-LEARNED = [
-    [], [[]], [[97, 98]], [[], []], [[97, 98], [97, 98, 97, 98]], [[7] * 10, [], [97], mixed_signs(1, 20)],
-    [[97, 98, 97]] * 5, [mixed_signs(1, 30)],
-]
 TELLINGS = (foretold, by_looks, cost)
-
-
-def taught(looks, learned):
-    foreteller = Foreteller(looks)
-    for text in learned:
-        for bit in decisions_of(text):
-            foreteller.see(bit)
-    return foreteller
-
-
-def cases():
-    return [(looks, text, learned) for looks in SOME_LOOKS for text in TEXTS for learned in LEARNED]
-
-
-def no_texts():
-    return no_lists() + bad_lists(1000)
-
-
-def no_learned():
-    """Things of all kinds that are no learned texts; None and the list of none are some."""
-    things = [thing for thing in no_lists() if thing is not None]
-    things += [([1], [2]), ([],), {"a": [1]}, [1, 2, 3], [0], ["abc"], [None], [()], [(1, 2)], [[[1]]], [[[]]], looped()]
-    for thing in no_texts():
-        things.extend([[thing], [[1, 2], thing], [thing, [1, 2]], [[]] * 9 + [thing]])
-    return things
 
 
 class TestCheckedLearned(unittest.TestCase):
